@@ -115,3 +115,18 @@ class Follower:
         holds = holds_at_turn(self.parts, turn, self.memory, outlook_at_last_turn(self.parts))
         self.memory = memory_after(self.parts, holds)
         return holds[0]
+
+
+# 1 if the condition holds at a place of the course as it is, else 0.
+def holds_at_place(parts, course, place):
+    follower = Follower(parts, [])
+    memories = []
+    for turn in course:
+        memories.append(follower.memory)
+        follower.follow(turn)
+    outlook = outlook_at_last_turn(parts)
+    # Places are numbered from 1, so the turn at the place is the one at place - 1.
+    for k in range(len(course) - 1, place - 2, -1):
+        holds = holds_at_turn(parts, course[k], memories[k], outlook)
+        outlook = outlook_before(parts, holds, outlook)
+    return outlook[-1]

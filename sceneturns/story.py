@@ -1,7 +1,8 @@
 """The calls: a list of calls is read, each is answered on one story, and the answers are given back."""
 
 from sceneturns.conditions import looks_back_only, read_condition
-from sceneturns.scenes import Scene
+from sceneturns.places import holds_at_place
+from sceneturns.scenes import Scene, first_way_together
 from sceneturns.wishes import Wish
 
 FACTS = 0
@@ -10,9 +11,14 @@ SCENE = 2
 TURN = 3
 KEPT = 4
 HOPE = 5
+SCENES = 6
+TOGETHER = 7
+COURSE = 8
+HOLDS = 9
+SHOW = 10
 
-# For each call, from FACTS to HOPE, how many whole numbers it has, then how many rows.
-CALL_FORMS = ((1, 0), (0, 1), (0, 2), (1, 0), (1, 0), (3, 0))
+# For each call, from FACTS to SHOW, how many whole numbers it has, then how many rows.
+CALL_FORMS = ((1, 0), (0, 1), (0, 2), (1, 0), (1, 0), (3, 0), (0, 0), (3, 0), (0, 0), (1, 1), (1, 0))
 
 # The refusals. Each call asks for them in this order, so the one nearest to 0 is answered.
 NOT_IN_RANGE = -1
@@ -25,7 +31,7 @@ MOST_FACTS = 3
 MOST_TURNS = 60
 MOST_WISHES = 6
 MOST_SCENES = 6
-MOST_HOPE = 6
+MOST_WAY = 6
 
 
 class Story:
@@ -46,7 +52,17 @@ class Story:
             return self.tell_turn(numbers[0])
         if call == KEPT:
             return self.ask_kept(numbers[0])
-        return self.ask_hope(numbers[0], numbers[1], numbers[2])
+        if call == HOPE:
+            return self.ask_hope(numbers[0], numbers[1], numbers[2])
+        if call == SCENES:
+            return self.ask_scenes()
+        if call == TOGETHER:
+            return self.ask_together(numbers[0], numbers[1], numbers[2])
+        if call == COURSE:
+            return [0] + self.course
+        if call == HOLDS:
+            return self.ask_holds(numbers[0], rows[0])
+        return self.ask_show(numbers[0])
 
     def tell_facts(self, facts):
         if not 0 <= facts <= MOST_FACTS:
@@ -62,7 +78,7 @@ class Story:
             return [NO_CONDITION]
         if len(self.wishes) == MOST_WISHES:
             return [NO_PLACE]
-        self.wishes.append(Wish(parts, self.facts, self.course))
+        self.wishes.append(Wish(row, parts, self.facts, self.course))
         return [0, len(self.wishes) - 1]
 
     def tell_scene(self, begin_row, end_row):
@@ -87,7 +103,7 @@ class Story:
             wish.turn_comes(turn)
         began = 0
         for scene in self.scenes:
-            began += scene.turn_comes(turn)
+            began += scene.turn_comes(turn, len(self.course))
         return [0, len(self.course), began] + [scene.goes_on for scene in self.scenes]
 
     def ask_kept(self, number):
@@ -96,12 +112,40 @@ class Story:
         return [0, self.wishes[number].kept_so_far()]
 
     def ask_hope(self, number, most, kept):
-        if not 0 <= most <= MOST_HOPE or not 0 <= kept <= 1:
+        if not 0 <= most <= MOST_WAY or not 0 <= kept <= 1:
             return [NOT_IN_RANGE]
         if not 0 <= number < len(self.wishes):
             return [NONE_SUCH]
         way = self.wishes[number].first_way(most, kept)
         return [0, 0] if way is None else [0, 1] + list(way)
+
+    def ask_scenes(self):
+        answer = [0]
+        for scene in self.scenes:
+            answer.extend([scene.goes_on, scene.begun_at, scene.begun_count])
+        return answer
+
+    def ask_together(self, number, other_number, most):
+        if not 0 <= most <= MOST_WAY:
+            return [NOT_IN_RANGE]
+        if not 0 <= number < len(self.scenes) or not 0 <= other_number < len(self.scenes):
+            return [NONE_SUCH]
+        way = first_way_together(self.scenes[number], self.scenes[other_number], most, self.facts)
+        return [0, 0] if way is None else [0, 1] + way
+
+    def ask_holds(self, place, row):
+        if not 1 <= place <= len(self.course):
+            return [NOT_IN_RANGE]
+        parts = read_condition(row, self.facts)
+        if parts is None:
+            return [NO_CONDITION]
+        return [0, holds_at_place(parts, self.course, place)]
+
+    def ask_show(self, number):
+        if not 0 <= number < len(self.wishes):
+            return [NONE_SUCH]
+        wish = self.wishes[number]
+        return [0, wish.gone] + wish.row
 
 
 # The rows of a call, of which the first begins at a place of the list, and the place behind the last one.

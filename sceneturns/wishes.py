@@ -8,8 +8,11 @@ from sceneturns.places import Follower, holds_at_turn, memory_after, outlook_at_
 
 
 class Wish:
-    def __init__(self, parts, facts, course):
+    def __init__(self, row, parts, facts, course):
+        self.row = row
         self.parts = parts
+        # How many turns were gone when it was told.
+        self.gone = len(course)
         self.turn_count = 1 << facts
         self.follower = Follower(parts, course)
         # The turns since the wish was told, and the memory at the place of each.

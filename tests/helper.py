@@ -4,6 +4,7 @@ The plain reading (holds, is_condition, PlainStory) is written from the document
 and tries every way on: slow, and in no step like the program.
 """
 
+import copy
 import itertools
 import random
 
@@ -72,6 +73,26 @@ def kept(number):
 
 def hope(number, n, v):
     return [5, number, n, v]
+
+
+def scenes():
+    return [6]
+
+
+def together(a, b, n):
+    return [7, a, b, n]
+
+
+def told_course():
+    return [8]
+
+
+def holds_at(place, row):
+    return [9, place, len(row)] + row
+
+
+def show(number):
+    return [10, number]
 
 
 def turns(*numbers):
@@ -178,6 +199,27 @@ def holds_node(node, course, place):
     return any(at(0, p) for p in range(place, min(place + number + 1, end)))
 
 
+class PlainScene:
+    def __init__(self, begins, ends):
+        self.begins = begins
+        self.ends = ends
+        self.goes_on = False
+        self.begun_at = 0
+        self.begun_count = 0
+
+    def turn_comes(self, course):
+        if self.goes_on:
+            self.goes_on = not holds(self.ends, course, len(course))
+        else:
+            self.goes_on = holds(self.begins, course, len(course))
+
+    def would_go_on(self, course, way):
+        would = copy.copy(self)
+        for length in range(1, len(way) + 1):
+            would.turn_comes(course + list(way[:length]))
+        return would.goes_on
+
+
 class PlainStory:
     def __init__(self):
         self.fact_count = 0
@@ -186,7 +228,8 @@ class PlainStory:
         self.scenes = []
 
     def answer(self, call):
-        name = ("facts", "wish", "scene", "turn", "kept", "hope")[call[0]]
+        name = ("facts", "wish", "scene", "turn", "kept", "hope", "all_scenes", "together", "whole_course", "holds_at",
+                "show")[call[0]]
         return getattr(self, name)(call[1:])
 
     def facts(self, told):
@@ -211,7 +254,7 @@ class PlainStory:
             return [-2]
         if len(self.scenes) == 6:
             return [-5]
-        self.scenes.append([rows[0], rows[1], False])
+        self.scenes.append(PlainScene(rows[0], rows[1]))
         return [0, len(self.scenes) - 1]
 
     def turn(self, told):
@@ -222,12 +265,13 @@ class PlainStory:
         self.course.append(told[0])
         began = 0
         for each in self.scenes:
-            if each[2]:
-                each[2] = not holds(each[1], self.course, len(self.course))
-            elif holds(each[0], self.course, len(self.course)):
-                each[2] = True
+            went_on = each.goes_on
+            each.turn_comes(self.course)
+            if each.goes_on and not went_on:
                 began += 1
-        return [0, len(self.course), began] + [int(each[2]) for each in self.scenes]
+                each.begun_at = len(self.course)
+                each.begun_count += 1
+        return [0, len(self.course), began] + [int(each.goes_on) for each in self.scenes]
 
     def kept(self, told):
         if told[0] not in range(len(self.wishes)):
@@ -246,6 +290,40 @@ class PlainStory:
                 if holds(row, self.course + list(way), place) == (told[2] == 1):
                     return [0, 1] + list(way)
         return [0, 0]
+
+    def all_scenes(self, told):
+        answer = [0]
+        for each in self.scenes:
+            answer += [1, each.begun_at, each.begun_count] if each.goes_on else [0, 0, each.begun_count]
+        return answer
+
+    def together(self, told):
+        if told[2] not in range(7):
+            return [-1]
+        if told[0] not in range(len(self.scenes)) or told[1] not in range(len(self.scenes)):
+            return [-4]
+        a, b = self.scenes[told[0]], self.scenes[told[1]]
+        for length in range(told[2] + 1):
+            for way in itertools.product(range(2 ** self.fact_count), repeat=length):
+                if a.would_go_on(self.course, way) and b.would_go_on(self.course, way):
+                    return [0, 1] + list(way)
+        return [0, 0]
+
+    def whole_course(self, told):
+        return [0] + self.course
+
+    def holds_at(self, told):
+        if told[0] not in range(1, len(self.course) + 1):
+            return [-1]
+        if not is_condition(told[2:], self.fact_count):
+            return [-2]
+        return [0, int(holds(told[2:], self.course, told[0]))]
+
+    def show(self, told):
+        if told[0] not in range(len(self.wishes)):
+            return [-4]
+        row, place = self.wishes[told[0]]
+        return [0, place - 1] + row
 
 
 def plain_run(calls):

@@ -129,7 +129,7 @@ class AllKinds(unittest.TestCase):
         self.assertLessEqual(len(flat(calls)), 17000)
         start = time.process_time()
         answer = run(calls)
-        # It takes about a second; to try each way on by itself would take hours.
+        # Far more than it takes, so that a slow machine doesn't fail, and far less than trying each way on by itself.
         self.assertLess(time.process_time() - start, 20)
         self.assertEqual({tuple(each) for call, each in zip(calls, answer) if call[0] in (5, 7)}, {(0, 0)})
         self.assertTrue(all(each[0] == 0 for each in answer))

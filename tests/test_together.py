@@ -324,7 +324,7 @@ def deep_condition(source, fact_count):
 
 class ManyTogether(unittest.TestCase):
     def test_a_line_full_of_scenes_that_never_go_on_together(self):
-        # Each alone has 299593 ways on to try, hardly two of them alike for both scenes.
+        # Each alone has 299593 ways on to try.
         begins = [3, 2, 0, 6] + before(before(fact(0))) + [6] + before(fact(1)) + before(fact(2))
         ends = [6] + before(before(before(before(fact(1))))) + since(before(before(fact(2))), before(fact(0)))
         calls = [facts(3)] + [scene(begins, ends)] * 6
